@@ -95,8 +95,8 @@ class Ordinary(unittest.TestCase):
         self.assertEqual(run((OPEN, 1, 0, 0)), [[0]])
 
     def test_numbers_in_the_order_of_putting_in(self):
-        calls = [(OPEN, 1, 0, 0)] + [(ball if k % 2 else box)(*((10 * k, 0, 2) + (() if k % 2 else (3,)))) for k in range(20)]
-        self.assertEqual(run(*calls)[1:], [[0, k] for k in range(20)])
+        shapes = [ball(10 * k, 0, 2) if k % 2 else box(10 * k, 0, 2, 3) for k in range(20)]
+        self.assertEqual(run((OPEN, 1, 0, 0), *shapes)[1:], [[0, k] for k in range(20)])
 
     def test_body_tells_a_box(self):
         for kind in (FIXED, FREE, DRIVER):
