@@ -4,10 +4,11 @@ The model is written from the document's words alone, with fractions, and draws 
 """
 
 from fractions import Fraction
+from math import isqrt
 
 from meetingbodies.world import answers
 
-OPEN, BOX, BALL, AIM, TICK, BODY, PLACES, MET = range(8)
+OPEN, BOX, BALL, AIM, TICK, BODY, PLACES, MET, WOULD, ROOM, RAY, DROP, RENUMBER, SUMS, TOTALS, ORDER = range(16)
 FIXED, FREE, DRIVER = range(3)
 HUGE = 1000000000000000000
 
@@ -57,6 +58,15 @@ def world(*shapes_and_velocities, parts=1, pull=(0, 0)):
     return calls
 
 
+def renumber(*numbers):
+    return (RENUMBER, len(numbers), *numbers)
+
+
+def full_world(kind=FREE):
+    """20 bodies in a row, far from where ordinary ones are put."""
+    return [(OPEN, 1, 0, 0)] + [ball(10 * k, -900000, 5, kind) for k in range(20)]
+
+
 def rows(answer, width):
     """Split what stands behind an answer's 0 into tuples of this many numbers."""
     assert answer[0] == 0 and (len(answer) - 1) % width == 0, answer
@@ -100,7 +110,8 @@ def model_boxes(place, way, hx, hy):
     return any(abs(place[0] + way[0] * t) < hx and abs(place[1] + way[1] * t) < hy for t in times)
 
 
-def model_box_ball(place, way, hx, hy, r):
+def least_to_box(place, way, hx, hy):
+    """The square of the least distance from the box about 0 on a way."""
     times = times_of([(place[0], way[0], (-hx, hx)), (place[1], way[1], (-hy, hy))])
     pieces = []
     for begin, end in zip(times, times[1:]):
@@ -112,7 +123,7 @@ def model_box_ball(place, way, hx, hy, r):
             elif middle < -half:
                 terms.append((place[axis] + half, way[axis]))
         pieces.append((begin, end, terms))
-    return least_square(pieces) < r * r
+    return least_square(pieces)
 
 
 def model_comes(one, other, one_way, other_way):
@@ -126,7 +137,7 @@ def model_comes(one, other, one_way, other_way):
         return least_square([(0, 1, list(zip(place, way)))]) < r * r
     if len(one["size"]) == 1:
         return model_comes(other, one, other_way, one_way)
-    return model_box_ball(place, way, *one["size"], *other["size"])
+    return least_to_box(place, way, *one["size"]) < other["size"][0] ** 2
 
 
 def model_rounds(bodies):
@@ -227,6 +238,70 @@ def model_bodies(shapes, velocities):
 
 def model_within(one, other):
     return model_comes(one, other, (0, 0), (0, 0))
+
+
+def model_box_time(place, way, size):
+    """When a ray comes to a box, as (a, b, 0), or None."""
+    spans = []
+    for p, v, h in zip(place, way, size):
+        if v > 0:
+            spans.append((v, -h - p, Fraction(h - p, v)))
+        elif v < 0:
+            spans.append((-v, p - h, Fraction(h + p, -v)))
+        elif not -h <= p <= h:
+            return None
+    if not spans:
+        return None
+    # Of equal ones max gives the first.
+    a, b, ignored = max(spans, key=lambda span: Fraction(span[1], span[0]))
+    time = Fraction(b, a)
+    return (a, b, 0) if 0 <= time <= 1 and all(time <= end for ignored, ignored, end in spans) else None
+
+
+def model_ball_time(place, way, r):
+    """When a ray comes to a ball, as (a, b, d), or None."""
+    a = sum(v * v for v in way)
+    b = -sum(p * v for p, v in zip(place, way))
+    c = sum(p * p for p in place) - r * r
+    d = b * b - a * c
+    return (a, b, d) if a != 0 and b >= 0 and c >= 0 and d >= 0 and b - a <= isqrt(d) else None
+
+
+def model_time(body, ray):
+    """When a ray, x, y, dx, dy, comes to one of the model's bodies."""
+    place = [p - q for p, q in zip(ray[:2], body["place"])]
+    if len(body["size"]) == 2:
+        return model_box_time(place, ray[2:], body["size"])
+    return model_ball_time(place, ray[2:], *body["size"])
+
+
+def stamp(time, scale):
+    """The greatest whole number that, divided by scale, is not later than the time a, b, d."""
+    a, b, d = time
+    root = isqrt(d * scale * scale)
+    if root * root < d * scale * scale:
+        root += 1
+    return (b * scale - root) // a
+
+
+# Two times that come from places and ways up to 10 ** 8 are one time, or their difference is greater than 10 ** -120.
+FINE = 10 ** 150
+
+
+def model_order(bodies, ray):
+    """The numbers and times of all bodies that a ray comes to, in order."""
+    times = {number: model_time(body, ray) for number, body in enumerate(bodies)}
+    hits = [(stamp(time, FINE), number) for number, time in times.items() if time is not None]
+    return [(number, *times[number]) for ignored, number in sorted(hits)]
+
+
+def model_reaches(body, ray, end):
+    """Whether a ray comes to be in a body, edges too, from the time 0 to the time end."""
+    place = [p - q for p, q in zip(ray[:2], body["place"])]
+    way = [v * Fraction(end) for v in ray[2:]]
+    if len(body["size"]) == 2:
+        return least_to_box(place, way, *body["size"]) == 0
+    return least_square([(0, 1, list(zip(place, way)))]) <= body["size"][0] ** 2
 
 
 # Drawing.

@@ -1,10 +1,11 @@
-"""The calls 0 to 7: their answers, their ranges, their refusals; and the interface's form."""
+"""All calls: their form, their ranges, their refusals, promise 5; and the ordinary answers of the calls 0 to 7."""
 
 import unittest
 
 from meetingbodies.world import answers
 from tests.helper import (
-    AIM, BALL, BODY, BOX, DRIVER, FIXED, FREE, HUGE, MET, OPEN, PLACES, TICK, ball, box, flatten, last, run,
+    AIM, BALL, BODY, BOX, DRIVER, DROP, FIXED, FREE, HUGE, MET, OPEN, ORDER, PLACES, RAY, RENUMBER, ROOM, SUMS, TICK, TOTALS,
+    WOULD, ball, box, flatten, full_world, last, renumber, run,
 )
 
 PLACE = (-1000000, 1000000)
@@ -17,15 +18,16 @@ RANGES = {
     AIM: [(0, 19), (-1000, 1000), (-1000, 1000)],
     TICK: [(1, 20)],
     BODY: [(0, 19)],
+    WOULD: [(0, 19), PLACE, PLACE],
+    ROOM: [PLACE, PLACE, SIZE, SIZE],
+    RAY: [PLACE] * 4,
+    DROP: [(0, 19)],
+    ORDER: [PLACE] * 4,
 }
 ORDINARY = {
     OPEN: (2, 0, 0), BOX: (0, 500000, 3, 4, 1, 0, 0), BALL: (0, 500000, 3, 1, 0, 0), AIM: (0, 5, 6), TICK: (1,), BODY: (0,),
+    WOULD: (0, 5, 6), ROOM: (0, 500000, 3, 4), RAY: (0, 0, 5, 6), DROP: (0,), ORDER: (0, 0, 5, 6),
 }
-
-
-def full_world(kind=FREE):
-    """20 bodies in a row, far from where ordinary ones are put."""
-    return [(OPEN, 1, 0, 0)] + [ball(10 * k, -900000, 5, kind) for k in range(20)]
 
 
 def ground_for(call):
@@ -52,9 +54,24 @@ class Form(unittest.TestCase):
         calls = flatten([(OPEN, 1, 0, 0), ball(0, 0, 1), ball(3, 0, 1), (AIM, 0, 2, 0), (TICK, 1), (MET,)])
         self.assertEqual(answers(calls), [1, 0, 2, 0, 0, 2, 0, 1, 1, 0, 2, 0, 1, 4, 0, 0, 0, 1])
 
+    def test_the_form_of_the_calls_8_to_15(self):
+        calls = [0, 3, 4, -5, 1, 10, 0, 2, 2, 1, 0, 0, 2, 20, 0, 2, 1, 0, 0, 3, 0, 7, -1, 3, 1, -2, 0]
+        answered = [1, 0, 2, 0, 0, 2, 0, 1, 1, 0, 1, 0]
+        for call, answer in (
+            ([8, 0, 9, 0], [2, 0, 1]), ([8, 0, 0, 9], [1, 0]), ([9, 15, 0, 4, 1], [3, 0, 0, 1]), ([9, 15, 0, 3, 1], [1, 0]),
+            ([10, 0, 0, 40, 0], [5, 0, 0, 200, 1, 450]), ([10, 0, 0, 0, 40], [1, 0]), ([11, 0], [1, 0]),
+            ([12, 2, 1, 0], [1, 0]), ([12, 0], [1, -5]), ([12, 1, 99], [1, -1]), ([13], [4, 0, 5, -1, 54]),
+            ([14], [6, 0, 3, 4, -5, 2, 0]), ([15, 0, 0, 40, 0], [9, 0, 0, 40, 8, 0, 1, 1600, 800, 6400]),
+            ([15, 0, 0, 0, 40], [1, 0]),
+        ):
+            with self.subTest(call=call):
+                # Behind it another call is found where it begins.
+                self.assertEqual(answers(calls + call + [5, 9]), answered + answer + [1, -3])
+
     def test_a_refusal_is_one_number(self):
         self.assertEqual(answers([TICK, 0]), [1, -1])
         self.assertEqual(answers([PLACES]), [1, -2])
+        self.assertEqual(answers([WOULD, 20, 0, 0, ORDER, 0, 0, 1, 0, RENUMBER, 3, 0, -1, 2]), [1, -1, 1, -2, 1, -1])
 
     def test_what_is_handed_in_is_never_changed(self):
         class Watched(list):
@@ -64,7 +81,11 @@ class Form(unittest.TestCase):
             append = clear = extend = insert = pop = remove = reverse = sort = refuse
             __setitem__ = __delitem__ = __iadd__ = __imul__ = refuse
 
-        calls = flatten(full_world() + [(AIM, 0, 9, 0), (TICK, 2), box(0, 0, 0, 1), (PLACES,), (MET,), (BODY, 3)])
+        calls = flatten(full_world() + [
+            (AIM, 0, 9, 0), (TICK, 2), box(0, 0, 0, 1), (PLACES,), (MET,), (BODY, 3), (WOULD, 3, 50, 5),
+            (ROOM, 0, -900000, 50, 50), (RAY, 0, 0, 0, -1000000), (ORDER, 0, 0, 0, -1000000), renumber(*range(19, -1, -1)),
+            (DROP, 4), renumber(*range(20)), renumber(3, 2, 1, 0), (SUMS,), (TOTALS,),
+        ])
         before = list(calls)
         expected = answers(calls)
         self.assertEqual(calls, before)
@@ -82,7 +103,11 @@ class Form(unittest.TestCase):
         self.assertEqual(answers(one), first[:-1])
 
     def test_answers_are_plain_whole_numbers(self):
-        found = answers(flatten(full_world() + [(AIM, 0, 9, 0), (TICK, 1), (PLACES,), (MET,), (BODY, 0), (BODY, 99)]))
+        found = answers(flatten(full_world() + [box(500000, 0, 9, 9)] + [
+            (AIM, 0, 9, 0), (TICK, 1), (PLACES,), (MET,), (BODY, 0), (BODY, 99), (DROP, 5), box(500000, 0, 9, 9),
+            (WOULD, 3, 50, 5), (ROOM, 0, -900000, 50, 50), (RAY, 0, -900000, 1000000, 900000), (SUMS,), (TOTALS,),
+            (RAY, 0, 0, 1000000, 0), (ORDER, 0, 0, 1000000, 0), (ORDER, 0, 0, 0, -1000000), renumber(*range(20)),
+        ]))
         self.assertIs(type(found), list)
         self.assertEqual({type(number) for number in found}, {int})
 
@@ -130,6 +155,13 @@ class Ordinary(unittest.TestCase):
         self.assertEqual(last(*calls, (PLACES,)), [0, 17000000, -17000000, 1000, -1000])
 
 
+def longest_list(number, at, length=20):
+    """A list of numbers that are all in their range but for one."""
+    numbers = list(range(length))
+    numbers[at] = number
+    return renumber(*numbers)
+
+
 class Ranges(unittest.TestCase):
     def ask(self, call, at, number):
         numbers = list(ORDINARY[call])
@@ -151,12 +183,33 @@ class Ranges(unittest.TestCase):
                     with self.subTest(call=call, at=at, number=number):
                         self.assertEqual(self.ask(call, at, number), [-1])
 
+    def test_each_number_of_a_list(self):
+        for at in (0, 1, 10, 18, 19):
+            for number in (-1, 20, -HUGE, HUGE, 1 - HUGE, HUGE - 1, -2 ** 32, 2 ** 32):
+                with self.subTest(at=at, number=number):
+                    self.assertEqual(last(*full_world(), longest_list(number, at)), [-1])
+            for number in (0, 1, 18, 19):
+                with self.subTest(at=at, number=number):
+                    self.assertEqual(last(*full_world(), longest_list(number, at)), [0 if number == at else -5])
+
+    def test_each_length_of_a_list(self):
+        for length in range(31):
+            expected = 0 if length == 20 else -5 if length < 20 else -1
+            with self.subTest(length=length):
+                self.assertEqual(last(*full_world(), renumber(*[k % 20 for k in range(length)])), [expected])
+        for length in range(21, 31):
+            self.assertEqual(last((OPEN, 1, 0, 0), renumber(*[0] * length)), [-1])
+        self.assertEqual(last((OPEN, 1, 0, 0), renumber(*[0] * 20)), [-5])
+
 
 class Refusals(unittest.TestCase):
     def test_nothing_is_open(self):
-        for call in (BOX, BALL, AIM, TICK, BODY):
-            self.assertEqual(run((call, *ORDINARY[call])), [[-2]])
-        self.assertEqual(run((PLACES,), (MET,)), [[-2], [-2]])
+        for call in ORDINARY:
+            if call != OPEN:
+                self.assertEqual(run((call, *ORDINARY[call])), [[-2]])
+        self.assertEqual(run((PLACES,), (MET,), (SUMS,)), [[-2], [-2], [-2]])
+        self.assertEqual(run(renumber(), renumber(0), renumber(*range(20))), [[-2], [-2], [-2]])
+        self.assertEqual(run((TOTALS,)), [[0, 0, 0, 0, 0, 0]])
 
     def test_a_refused_open_opens_nothing(self):
         self.assertEqual(run((OPEN, 17, 0, 0), (PLACES,), (OPEN, 16, 0, 0), (PLACES,)), [[-1], [-2], [0], [0]])
@@ -166,7 +219,20 @@ class Refusals(unittest.TestCase):
         for number, found in ((0, 0), (1, 0), (2, -3), (19, -3), (20, -1)):
             self.assertEqual(last(*calls, (AIM, number, 0, 0)), [found])
             self.assertEqual(last(*calls, (BODY, number))[0], found)
-        self.assertEqual(run((OPEN, 1, 0, 0), (AIM, 0, 0, 0), (BODY, 0))[1:], [[-3], [-3]])
+            self.assertEqual(last(*calls, (WOULD, number, 0, 0)), [found])
+            self.assertEqual(last(*calls, (DROP, number)), [found])
+        found = run((OPEN, 1, 0, 0), (AIM, 0, 0, 0), (BODY, 0), (WOULD, 0, 0, 0), (DROP, 0))
+        self.assertEqual(found[1:], [[-3]] * 4)
+
+    def test_the_list_is_not_all_the_numbers(self):
+        calls = [(OPEN, 1, 0, 0), ball(0, 0, 1), ball(9, 0, 1), ball(18, 0, 1)]
+        for numbers in (
+            (), (0,), (0, 1), (1, 2), (0, 1, 2, 3), (0, 1, 2, 0), (0, 0, 0), (0, 0, 1), (0, 1, 1), (2, 2, 1), (0, 1, 3),
+            (1, 2, 3), (19, 1, 2), (0, 1, 19), (0, 2, 2), range(20), [0] * 20,
+        ):
+            with self.subTest(numbers=numbers):
+                self.assertEqual(last(*calls, renumber(*numbers)), [-5])
+        self.assertEqual(last((OPEN, 1, 0, 0), renumber(0)), [-5])
 
     def test_there_are_20_bodies(self):
         found = run(*full_world(), ball(0, 0, 1), box(0, 0, 1, 1), (PLACES,))
@@ -212,9 +278,10 @@ class SeveralAreDue(unittest.TestCase):
     def test_a_bad_number_goes_ahead_of_nothing_open(self):
         for call, ranges in RANGES.items():
             for at, (least, greatest) in enumerate(ranges):
-                numbers = list(ORDINARY[call])
-                numbers[at] = greatest + 1
-                self.assertEqual(run((call, *numbers)), [[-1]])
+                for number in (least - 1, greatest + 1):
+                    numbers = ORDINARY[call][:at] + (number,) + ORDINARY[call][at + 1:]
+                    self.assertEqual(run((call, *numbers)), [[-1]])
+        self.assertEqual(run(renumber(20), renumber(-1), renumber(0, 1, HUGE), renumber(*[0] * 21)), [[-1]] * 4)
 
     def test_a_bad_number_goes_ahead_of_all_else(self):
         calls = full_world(FIXED) + [(TICK, 20)] * 50
@@ -224,9 +291,16 @@ class SeveralAreDue(unittest.TestCase):
         self.assertEqual(last(*calls, (AIM, 0, 1001, 0)), [-1])
         self.assertEqual(last(*calls, (TICK, 21)), [-1])
         self.assertEqual(last((OPEN, 1, 0, 0), (AIM, 5, 0, -1001)), [-1])
+        self.assertEqual(last((OPEN, 1, 0, 0), (WOULD, 5, 0, -1000001)), [-1])
+        self.assertEqual(last((OPEN, 1, 0, 0), (WOULD, 5, 1000001, 0)), [-1])
+        self.assertEqual(last(*calls, renumber(0, 0, 20)), [-1])
+        self.assertEqual(last(*calls, renumber(-1)), [-1])
 
     def test_nothing_open_goes_ahead_of_no_such_body(self):
-        self.assertEqual(run((AIM, 19, 0, 0), (BODY, 19)), [[-2], [-2]])
+        self.assertEqual(run((AIM, 19, 0, 0), (BODY, 19), (WOULD, 19, 0, 0), (DROP, 19)), [[-2]] * 4)
+
+    def test_no_such_body_goes_ahead_of_a_fixed_one(self):
+        self.assertEqual(run((OPEN, 1, 0, 0), ball(0, 0, 1, FIXED), (AIM, 1, 0, 0), (AIM, 0, 0, 0))[2:], [[-3], [-7]])
 
     def test_20_bodies_goes_ahead_of_no_room(self):
         self.assertEqual(run(*full_world(), ball(0, -900000, 1), box(0, -900000, 1, 1))[-2:], [[-4], [-4]])
@@ -235,6 +309,10 @@ class SeveralAreDue(unittest.TestCase):
 REFUSED = [
     (OPEN, 0, 0, 0), (OPEN, 3, 7, 7), box(HUGE, 0, 1, 1), box(0, 0, 1, 1), ball(0, 0, 0), ball(0, 0, 5), (AIM, 0, 1001, 0),
     (AIM, 2, 5, 5), (AIM, 9, 5, 5), (AIM, 20, 5, 5), (TICK, 0), (TICK, 21), (TICK, -HUGE), (BODY, 9), (BODY, -1),
+    (WOULD, 3, 5, 5), (WOULD, -1, 5, 5), (WOULD, 0, 1000001, 5), (ROOM, 0, 0, 0, 1), (ROOM, 0, 0, 1, 100001),
+    (RAY, 0, 0, 0, HUGE), (RAY, -1000001, 0, 0, 0), (ORDER, 0, 0, 0, HUGE), (ORDER, 0, 1000001, 0, 0), (DROP, 3), (DROP, 20),
+    (DROP, -HUGE), renumber(), renumber(0, 1), renumber(2, 1, 0, 3), renumber(2, 1, 1), renumber(2, 1, 3), renumber(2, 1, 20),
+    renumber(2, 1, -1), renumber(2, 1, 0, 20), renumber(*[2, 1, 0] * 7), renumber(*[2, 1, 0] * 10),
 ]
 
 
@@ -245,43 +323,51 @@ class Promise5(unittest.TestCase):
         (OPEN, 2, 1, -2), ball(0, 0, 5, FREE, 1, 1), box(15, 0, 6, 6, DRIVER), box(0, -40, 30, 5, FIXED),
         (AIM, 0, 9, 1), (AIM, 1, -3, 0), (TICK, 1),
     ]
-    look = [(PLACES,), (MET,), (BODY, 0), (BODY, 1), (BODY, 2), (BODY, 3)]
+    look = [
+        (PLACES,), (MET,), (BODY, 0), (BODY, 1), (BODY, 2), (BODY, 3), (TOTALS,), (SUMS,), (WOULD, 0, 90, -90),
+        (ROOM, 0, 0, 100, 100), (ORDER, 0, -90, 0, 200),
+    ]
 
     def test_all_looks_the_same_behind_a_refused_call(self):
-        expected = run(*self.base, *self.look)[-6:]
+        expected = run(*self.base, *self.look)[len(self.base):]
         self.assertGreater(len(expected[1]), 1)
+        self.assertEqual(expected[6], [0, 2, 1, -2, 3, 1])
         for call in REFUSED:
-            found = run(*self.base, call, *self.look)
+            found = run(*self.base, call, *self.look)[len(self.base):]
             with self.subTest(call=call):
-                self.assertEqual(len(found[-7]), 1)
-                self.assertLess(found[-7][0], 0)
-                self.assertEqual(found[-6:], expected)
+                self.assertEqual(len(found[0]), 1)
+                self.assertLess(found[0][0], 0)
+                self.assertEqual(found[1:], expected)
 
     def test_all_goes_on_the_same_behind_a_refused_call(self):
         go = [ball(90, 90, 2), (AIM, 3, -20, -20), (TICK, 7), *self.look]
-        expected = run(*self.base, *go)[-9:]
+        expected = run(*self.base, *go)[len(self.base):]
         for call in REFUSED:
             with self.subTest(call=call):
-                self.assertEqual(run(*self.base, call, *go)[-9:], expected)
+                self.assertEqual(run(*self.base, call, *go)[len(self.base) + 1:], expected)
 
     def test_refused_calls_ahead_of_open_change_nothing(self):
-        ahead = [(OPEN, 0, 5, 5), (OPEN, 5, 101, 5), box(0, 0, 1, 1), ball(0, 0, 1), (AIM, 0, 1, 1), (TICK, 5), (PLACES,)]
+        ahead = [
+            (OPEN, 0, 5, 5), (OPEN, 5, 101, 5), box(0, 0, 1, 1), ball(0, 0, 1), (AIM, 0, 1, 1), (TICK, 5), (PLACES,),
+            (DROP, 0), renumber(), renumber(0), (WOULD, 0, 1, 1), (ROOM, 0, 0, 1, 1), (RAY, 0, 0, 1, 1), (TOTALS,),
+        ]
         found = run(*ahead, *self.base, *self.look)
-        self.assertEqual(found[:7], [[-1], [-1], [-2], [-2], [-2], [-2], [-2]])
-        self.assertEqual(found[7:], run(*self.base, *self.look))
+        self.assertEqual(found[:14], [[-1], [-1]] + [[-2]] * 11 + [[0, 0, 0, 0, 0, 0]])
+        self.assertEqual(found[14:], run(*self.base, *self.look))
 
     def test_when_there_are_20_bodies(self):
         calls = full_world() + [(AIM, 0, 5, 0), (TICK, 1)]
-        expected = run(*calls, (PLACES,), (MET,), (BODY, 19))[-3:]
+        look = [(PLACES,), (MET,), (BODY, 19), (TOTALS,)]
+        expected = run(*calls, *look)[-4:]
         for call in (ball(0, 0, 1), box(0, 0, 1, 1)):
-            self.assertEqual(run(*calls, call, (PLACES,), (MET,), (BODY, 19))[-4:], [[-4]] + expected)
+            self.assertEqual(run(*calls, call, *look)[-5:], [[-4]] + expected)
 
     def test_a_tick_too_many_makes_none_at_all(self):
         calls = [(OPEN, 1, 0, 0), ball(0, 0, 5), ball(10, 0, 5, FIXED), ball(0, 50, 5)]
         calls += [(AIM, 2, 1, 0)] + [(TICK, 20)] * 49 + [(TICK, 18), (AIM, 0, 3, 0), (TICK, 1)]
-        expected = run(*calls, (PLACES,), (MET,))[-2:]
-        self.assertEqual(expected, [[0, 0, 0, 0, 0, 10, 0, 0, 0, 999, 50, 1, 0], [0, 0, 0, 1]])
-        self.assertEqual(run(*calls, (TICK, 2), (PLACES,), (MET,))[-3:], [[-8]] + expected)
+        expected = run(*calls, (PLACES,), (MET,), (TOTALS,))[-3:]
+        self.assertEqual(expected, [[0, 0, 0, 0, 0, 10, 0, 0, 0, 999, 50, 1, 0], [0, 0, 0, 1], [0, 1, 0, 0, 3, 999]])
+        self.assertEqual(run(*calls, (TICK, 2), (PLACES,), (MET,), (TOTALS,))[-4:], [[-8]] + expected)
         self.assertEqual(run(*calls, (TICK, 2), (TICK, 1), (PLACES,))[-2:], [[0, 0], [0, 0, 0, 0, 0, 10, 0, 0, 0, 1000, 50, 1, 0]])
 
 
